@@ -1,0 +1,53 @@
+// Package nibbles has the code of paths, which are rows of nibbles.
+package nibbles
+
+import "twigs/fault"
+
+const (
+	highest  = 15
+	oddFlag  = 1
+	leafFlag = 2
+)
+
+// Pack gives the code of a path, as that of a leaf or not.
+func Pack(path string, leaf bool) (string, error) {
+	for i := range len(path) {
+		if path[i] > highest {
+			return "", fault.Nibble
+		}
+	}
+	first := byte(0)
+	if leaf {
+		first = leafFlag << 4
+	}
+	if len(path)%2 == 1 {
+		first += oddFlag<<4 + path[0]
+		path = path[1:]
+	}
+	code := []byte{first}
+	for i := 0; i < len(path); i += 2 {
+		code = append(code, path[i]<<4|path[i+1])
+	}
+	return string(code), nil
+}
+
+// Unpack gives the path that has a code, and whether it is a leaf's.
+func Unpack(code string) (string, bool, error) {
+	if code == "" {
+		return "", false, fault.Form
+	}
+	flag, nibble := code[0]>>4, code[0]&highest
+	if flag > leafFlag+oddFlag {
+		return "", false, fault.Form
+	}
+	var path []byte
+	if flag&oddFlag != 0 {
+		path = append(path, nibble)
+	} else if nibble != 0 {
+		return "", false, fault.Form
+	}
+	for i := 1; i < len(code); i++ {
+		path = append(path, code[i]>>4, code[i]&highest)
+	}
+	return string(path), flag&leafFlag != 0, nil
+}

@@ -1,0 +1,58 @@
+package nibbles
+
+import (
+	"testing"
+
+	"twigs/fault"
+)
+
+func TestAllShortPathsComeBack(t *testing.T) {
+	paths := []string{""}
+	for from := 0; len(paths[from]) < 3; from++ {
+		for v := range 16 {
+			paths = append(paths, paths[from]+string([]byte{byte(v)}))
+		}
+	}
+	codes := map[string]string{}
+	for _, path := range paths {
+		for _, leaf := range []bool{false, true} {
+			code, err := Pack(path, leaf)
+			if err != nil || len(code) != len(path)/2+1 {
+				t.Fatalf("Pack(%x, %v) = %x, %v", path, leaf, code, err)
+			}
+			if before, ok := codes[code]; ok {
+				t.Fatalf("%x is the code of %x and of %x", code, before, path)
+			}
+			codes[code] = path
+			back, backLeaf, err := Unpack(code)
+			if err != nil || back != path || backLeaf != leaf {
+				t.Fatalf("Unpack(%x) = %x, %v, %v", code, back, backLeaf, err)
+			}
+		}
+	}
+}
+
+func TestEveryFirstByte(t *testing.T) {
+	for first := range 256 {
+		code := string([]byte{byte(first)}) + "\xab"
+		path, leaf, err := Unpack(code)
+		flag, nibble := first/16, first%16
+		if flag > 3 || flag%2 == 0 && nibble != 0 {
+			if err != fault.Form || path != "" || leaf {
+				t.Errorf("Unpack(%x) = %x, %v, %v, want %v", code, path, leaf, err, fault.Form)
+			}
+			continue
+		}
+		if again, _ := Pack(path, leaf); err != nil || again != code {
+			t.Errorf("Unpack(%x) = %x, %v, %v, and Pack gives %x", code, path, leaf, err, again)
+		}
+	}
+}
+
+func TestByteThatIsNoNibble(t *testing.T) {
+	for _, path := range []string{"\x10", "\x0f\x10", "\x01\x02\xff", "\x80\x01"} {
+		if code, err := Pack(path, false); code != "" || err != fault.Nibble {
+			t.Errorf("Pack(%x) = %x, %v, want %v", path, code, err, fault.Nibble)
+		}
+	}
+}
