@@ -16,6 +16,7 @@ var (
 	Rest    = errors.New("something is left behind the end")
 	Deep    = errors.New("lists are too deep in one another")
 	Nibble  = errors.New("a byte of the path is above 15")
+	Value   = errors.New("a value has no byte or too many")
 	Account = errors.New("this is no account")
 )
 
@@ -44,6 +45,8 @@ func Number(err error) api.Errno {
 		return api.ErrDeep
 	case errors.Is(err, Nibble):
 		return api.ErrNibble
+	case errors.Is(err, Value):
+		return api.ErrValue
 	case errors.Is(err, Account):
 		return api.ErrAccount
 	}

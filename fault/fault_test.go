@@ -19,6 +19,7 @@ func TestEachErrorHasItsNumber(t *testing.T) {
 		{Rest, api.ErrRest},
 		{Deep, api.ErrDeep},
 		{Nibble, api.ErrNibble},
+		{Value, api.ErrValue},
 		{Account, api.ErrAccount},
 	} {
 		if got := Number(c.err); got != c.want {

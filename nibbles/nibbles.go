@@ -1,13 +1,38 @@
 // Package nibbles has the code of paths, which are rows of nibbles.
 package nibbles
 
-import "twigs/fault"
+import (
+	"twigs/api"
+	"twigs/fault"
+)
 
 const (
 	highest  = 15
 	oddFlag  = 1
 	leafFlag = 2
 )
+
+// OfKey gives the path of a key.
+func OfKey(key api.Key) string {
+	return string(appendNibbles(nil, string(key[:])))
+}
+
+// appendNibbles writes the nibbles of each byte, the higher first.
+func appendNibbles(path []byte, packed string) []byte {
+	for i := range len(packed) {
+		path = append(path, packed[i]>>4, packed[i]&highest)
+	}
+	return path
+}
+
+// Common tells with how many nibbles both paths begin.
+func Common(a, b string) int {
+	n := 0
+	for n < len(a) && n < len(b) && a[n] == b[n] {
+		n++
+	}
+	return n
+}
 
 // Pack gives the code of a path, as that of a leaf or not.
 func Pack(path string, leaf bool) (string, error) {
@@ -16,6 +41,11 @@ func Pack(path string, leaf bool) (string, error) {
 			return "", fault.Nibble
 		}
 	}
+	return Code(path, leaf), nil
+}
+
+// Code is Pack for a path that is known to have no byte above 15.
+func Code(path string, leaf bool) string {
 	first := byte(0)
 	if leaf {
 		first = leafFlag << 4
@@ -28,7 +58,7 @@ func Pack(path string, leaf bool) (string, error) {
 	for i := 0; i < len(path); i += 2 {
 		code = append(code, path[i]<<4|path[i+1])
 	}
-	return string(code), nil
+	return string(code)
 }
 
 // Unpack gives the path that has a code, and whether it is a leaf's.
@@ -46,8 +76,6 @@ func Unpack(code string) (string, bool, error) {
 	} else if nibble != 0 {
 		return "", false, fault.Form
 	}
-	for i := 1; i < len(code); i++ {
-		path = append(path, code[i]>>4, code[i]&highest)
-	}
+	path = appendNibbles(path, code[1:])
 	return string(path), flag&leafFlag != 0, nil
 }

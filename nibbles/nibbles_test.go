@@ -3,6 +3,7 @@ package nibbles
 import (
 	"testing"
 
+	"twigs/api"
 	"twigs/fault"
 )
 
@@ -53,6 +54,36 @@ func TestByteThatIsNoNibble(t *testing.T) {
 	for _, path := range []string{"\x10", "\x0f\x10", "\x01\x02\xff", "\x80\x01"} {
 		if code, err := Pack(path, false); code != "" || err != fault.Nibble {
 			t.Errorf("Pack(%x) = %x, %v, want %v", path, code, err, fault.Nibble)
+		}
+	}
+}
+
+func TestPathOfAKey(t *testing.T) {
+	var key api.Key
+	for i := range key {
+		key[i] = byte(7 * i)
+	}
+	path := OfKey(key)
+	if len(path) != api.KeyNibbles {
+		t.Fatalf("the path of a key has %d nibbles", len(path))
+	}
+	for i, b := range key {
+		if path[2*i] != b/16 || path[2*i+1] != b%16 {
+			t.Errorf("byte %d is %x, its nibbles %x", i, b, path[2*i:2*i+2])
+		}
+	}
+}
+
+func TestWhatPathsHaveInCommon(t *testing.T) {
+	for _, c := range []struct {
+		a, b string
+		want int
+	}{
+		{"", "", 0}, {"", "\x01", 0}, {"\x01", "", 0}, {"\x01", "\x02", 0}, {"\x01", "\x01", 1},
+		{"\x01\x02", "\x01\x03", 1}, {"\x01\x02", "\x01\x02\x03", 2}, {"\x01\x02\x03", "\x01\x02", 2}, {"\x02\x01", "\x01\x01", 0},
+	} {
+		if got := Common(c.a, c.b); got != c.want {
+			t.Errorf("Common(%x, %x) = %d, want %d", c.a, c.b, got, c.want)
 		}
 	}
 }

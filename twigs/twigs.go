@@ -8,6 +8,7 @@ import (
 	"twigs/fault"
 	"twigs/item"
 	"twigs/nibbles"
+	"twigs/tree"
 )
 
 // Hasher takes a text piece by piece.
@@ -16,7 +17,9 @@ type Hasher struct {
 }
 
 // Tree is a map, or a part of one.
-type Tree struct{}
+type Tree struct {
+	nodes tree.Tree
+}
 
 // Digest gives the digest of a text (P3).
 func Digest(text string) api.Hash { return digest.Of(text) }
@@ -55,19 +58,26 @@ func Unpack(code string) (string, bool, api.Errno) {
 }
 
 // New makes an empty map (P6).
-func New() *Tree { return nil }
+func New() *Tree { return &Tree{} }
 
 // Get tells a key's value (P6).
-func (t *Tree) Get(key api.Key) (string, bool, api.Errno) { return "", false, api.OK }
+func (t *Tree) Get(key api.Key) (string, bool, api.Errno) {
+	value, had := t.nodes.Get(key)
+	return value, had, api.OK
+}
 
 // Put gives a key a value (P6).
-func (t *Tree) Put(key api.Key, value string) api.Errno { return api.OK }
+func (t *Tree) Put(key api.Key, value string) api.Errno {
+	return fault.Number(t.nodes.Put(key, value))
+}
 
 // Delete takes a key out (P6).
-func (t *Tree) Delete(key api.Key) (bool, api.Errno) { return false, api.OK }
+func (t *Tree) Delete(key api.Key) (bool, api.Errno) {
+	return t.nodes.Delete(key), api.OK
+}
 
 // Root gives the digest of all (P7).
-func (t *Tree) Root() api.Hash { return api.Hash{} }
+func (t *Tree) Root() api.Hash { return t.nodes.Root() }
 
 // Prove shows a key's value, or that it has none (P8).
 func (t *Tree) Prove(key api.Key) ([]string, api.Errno) { return nil, api.OK }

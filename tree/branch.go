@@ -1,0 +1,61 @@
+package tree
+
+import "twigs/item"
+
+// branch has a node for each nibble with which one of its paths begins.
+type branch struct {
+	worked
+	nodes [16]node
+}
+
+// fork gives a branch with one node, to which another is put at once.
+func fork(nibble byte, next node) *branch {
+	var b branch
+	b.nodes[nibble] = next
+	return &b
+}
+
+func (b *branch) code() string {
+	var items []byte
+	for _, next := range b.nodes {
+		if next == nil {
+			items = item.AppendText(items, "")
+		} else {
+			items = append(items, next.reference(next.code)...)
+		}
+	}
+	return string(item.AppendList(nil, item.AppendText(items, "")))
+}
+
+func (b *branch) behind(path string) node {
+	if path == "" {
+		return b
+	}
+	return &extension{path: path, tail: b}
+}
+
+func (b *branch) put(rest, value string) node {
+	return b.leading(rest[:1], &leaf{path: rest[1:], value: value})
+}
+
+func (b *branch) next(rest string) (node, int) { return b.nodes[rest[0]], 1 }
+
+func (b *branch) leading(by string, next node) node {
+	changed := branch{nodes: b.nodes}
+	changed.nodes[by[0]] = next
+	if nibble, alone := changed.alone(); alone {
+		return changed.nodes[nibble].behind(string([]byte{nibble}))
+	}
+	return &changed
+}
+
+// alone tells whether there is one node alone, and its nibble.
+func (b *branch) alone() (byte, bool) {
+	count, last := 0, 0
+	for nibble, next := range b.nodes {
+		if next != nil {
+			count, last = count+1, nibble
+		}
+	}
+	return byte(last), count == 1
+}

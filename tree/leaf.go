@@ -1,0 +1,30 @@
+package tree
+
+import (
+	"twigs/item"
+	"twigs/nibbles"
+)
+
+// leaf has the value of one path.
+type leaf struct {
+	worked
+	path  string
+	value string
+}
+
+func (l *leaf) code() string {
+	items := item.AppendText(nil, nibbles.Code(l.path, true))
+	return string(item.AppendList(nil, item.AppendText(items, l.value)))
+}
+
+func (l *leaf) behind(path string) node {
+	return &leaf{path: path + l.path, value: l.value}
+}
+
+func (l *leaf) put(rest, value string) node {
+	n := nibbles.Common(l.path, rest)
+	if n == len(rest) {
+		return &leaf{path: rest, value: value}
+	}
+	return fork(l.path[n], &leaf{path: l.path[n+1:], value: l.value}).put(rest[n:], value).behind(rest[:n])
+}
