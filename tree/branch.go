@@ -9,11 +9,7 @@ type branch struct {
 }
 
 // fork gives a branch with one node, to which another is put at once.
-func fork(nibble byte, next node) *branch {
-	var b branch
-	b.nodes[nibble] = next
-	return &b
-}
+func fork(nibble byte, next node) *branch { return (&branch{}).with(nibble, next) }
 
 func (b *branch) code() string {
 	var items []byte
@@ -21,32 +17,35 @@ func (b *branch) code() string {
 		if next == nil {
 			items = item.AppendText(items, "")
 		} else {
-			items = append(items, next.reference(next.code)...)
+			items = append(items, next.reference()...)
 		}
 	}
 	return string(item.AppendList(nil, item.AppendText(items, "")))
 }
 
-func (b *branch) behind(path string) node {
-	if path == "" {
-		return b
-	}
-	return &extension{path: path, tail: b}
+func (b *branch) reference() string { return b.work(b.code) }
+
+func (b *branch) behind(path string) (node, error) { return under(path, b), nil }
+
+// with gives the branch that has another node, or none, for a nibble.
+func (b *branch) with(nibble byte, next node) *branch {
+	changed := branch{nodes: b.nodes}
+	changed.nodes[nibble] = next
+	return &changed
 }
 
 func (b *branch) put(rest, value string) node {
-	return b.leading(rest[:1], &leaf{path: rest[1:], value: value})
+	return b.with(rest[0], &leaf{path: rest[1:], value: value})
 }
 
 func (b *branch) next(rest string) (node, int) { return b.nodes[rest[0]], 1 }
 
-func (b *branch) leading(by string, next node) node {
-	changed := branch{nodes: b.nodes}
-	changed.nodes[by[0]] = next
+func (b *branch) leading(by string, next node) (node, error) {
+	changed := b.with(by[0], next)
 	if nibble, alone := changed.alone(); alone {
 		return changed.nodes[nibble].behind(string([]byte{nibble}))
 	}
-	return &changed
+	return changed, nil
 }
 
 // alone tells whether there is one node alone, and its nibble.

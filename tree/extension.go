@@ -14,18 +14,29 @@ type extension struct {
 	tail node
 }
 
-func (e *extension) code() string {
-	items := item.AppendText(nil, nibbles.Code(e.path, false))
-	return string(item.AppendList(nil, append(items, e.tail.reference(e.tail.code)...)))
+// under gives a branch, or a stub that stands for one, with these nibbles ahead.
+func under(path string, tail node) node {
+	if path == "" {
+		return tail
+	}
+	return &extension{path: path, tail: tail}
 }
 
-func (e *extension) behind(path string) node {
-	return &extension{path: path + e.path, tail: e.tail}
+func (e *extension) code() string {
+	items := item.AppendText(nil, nibbles.Code(e.path, false))
+	return string(item.AppendList(nil, append(items, e.tail.reference()...)))
+}
+
+func (e *extension) reference() string { return e.work(e.code) }
+
+func (e *extension) behind(path string) (node, error) {
+	return &extension{path: path + e.path, tail: e.tail}, nil
 }
 
 func (e *extension) put(rest, value string) node {
 	n := nibbles.Common(e.path, rest)
-	return fork(e.path[n], e.tail.behind(e.path[n+1:])).put(rest[n:], value).behind(rest[:n])
+	parted := fork(e.path[n], under(e.path[n+1:], e.tail))
+	return under(rest[:n], parted.put(rest[n:], value))
 }
 
 func (e *extension) next(rest string) (node, int) {
@@ -36,4 +47,4 @@ func (e *extension) next(rest string) (node, int) {
 }
 
 // What is left of a branch below may be a leaf or an extension, so it is put behind the path, not under it.
-func (e *extension) leading(by string, next node) node { return next.behind(by) }
+func (e *extension) leading(by string, next node) (node, error) { return next.behind(by) }

@@ -17,8 +17,10 @@ func (l *leaf) code() string {
 	return string(item.AppendList(nil, item.AppendText(items, l.value)))
 }
 
-func (l *leaf) behind(path string) node {
-	return &leaf{path: path + l.path, value: l.value}
+func (l *leaf) reference() string { return l.work(l.code) }
+
+func (l *leaf) behind(path string) (node, error) {
+	return &leaf{path: path + l.path, value: l.value}, nil
 }
 
 func (l *leaf) put(rest, value string) node {
@@ -26,5 +28,6 @@ func (l *leaf) put(rest, value string) node {
 	if n == len(rest) {
 		return &leaf{path: rest, value: value}
 	}
-	return fork(l.path[n], &leaf{path: l.path[n+1:], value: l.value}).put(rest[n:], value).behind(rest[:n])
+	parted := fork(l.path[n], &leaf{path: l.path[n+1:], value: l.value})
+	return under(rest[:n], parted.put(rest[n:], value))
 }

@@ -68,8 +68,8 @@ func TestFormBehindEveryChange(t *testing.T) {
 		k := end(byte(r.Intn(3)), byte(r.Intn(3)*17), byte(r.Intn(20)))
 		k[0] = byte(r.Intn(2))
 		if _, had := keys[k]; r.Intn(2) == 0 {
-			if x.Delete(k) != had {
-				t.Fatalf("Delete(%x) = %v", k, !had)
+			if got, err := x.Delete(k); got != had || err != nil {
+				t.Fatalf("Delete(%x) = %v, %v", k, got, err)
 			}
 			delete(keys, k)
 		} else if err := x.Put(k, "a"); err != nil {
@@ -127,11 +127,13 @@ func TestNodesStayAsTheyAre(t *testing.T) {
 		x.Root()
 	}
 	for _, k := range keys {
-		x.Delete(k)
+		if had, err := x.Delete(k); !had || err != nil {
+			t.Fatal(had, err)
+		}
 	}
 	for _, k := range keys {
-		if value, had := before.Get(k); value != "a" || !had {
-			t.Errorf("the value of %x has become %q, %v", k, value, had)
+		if value, had, err := before.Get(k); value != "a" || !had || err != nil {
+			t.Errorf("the value of %x has become %q, %v, %v", k, value, had, err)
 		}
 	}
 	if again := treeOf(t, keys...).Root(); before.Root() != root || again != root {
@@ -149,14 +151,11 @@ func TestNothingIsWorkedOutTwice(t *testing.T) {
 		var w worked
 		want := digest.Of(strings.Repeat("c", size))
 		for range 2 {
-			if got := w.digest(code); got != want {
-				t.Errorf("the digest of %d bytes is %x, want %x", size, got, want)
-			}
 			held := strings.Repeat("c", size)
 			if size >= 32 {
 				held = "\xa0" + string(want[:])
 			}
-			if got := w.reference(code); got != held {
+			if got := w.work(code); got != held {
 				t.Errorf("the reference to a node of %d bytes is %x", size, got)
 			}
 		}

@@ -8,6 +8,7 @@ import (
 	"twigs/fault"
 	"twigs/item"
 	"twigs/nibbles"
+	"twigs/storage"
 	"twigs/tree"
 )
 
@@ -62,8 +63,8 @@ func New() *Tree { return &Tree{} }
 
 // Get tells a key's value (P6).
 func (t *Tree) Get(key api.Key) (string, bool, api.Errno) {
-	value, had := t.nodes.Get(key)
-	return value, had, api.OK
+	value, had, err := t.nodes.Get(key)
+	return value, had, fault.Number(err)
 }
 
 // Put gives a key a value (P6).
@@ -73,22 +74,29 @@ func (t *Tree) Put(key api.Key, value string) api.Errno {
 
 // Delete takes a key out (P6).
 func (t *Tree) Delete(key api.Key) (bool, api.Errno) {
-	return t.nodes.Delete(key), api.OK
+	had, err := t.nodes.Delete(key)
+	return had, fault.Number(err)
 }
 
 // Root gives the digest of all (P7).
 func (t *Tree) Root() api.Hash { return t.nodes.Root() }
 
 // Prove shows a key's value, or that it has none (P8).
-func (t *Tree) Prove(key api.Key) ([]string, api.Errno) { return nil, api.OK }
+func (t *Tree) Prove(key api.Key) ([]string, api.Errno) {
+	proof, err := t.nodes.Prove(key)
+	return proof, fault.Number(err)
+}
 
 // Verify reads a proof (P9).
 func Verify(root api.Hash, key api.Key, proof []string) (string, bool, api.Fault) {
-	return "", false, api.Fault{}
+	value, had, err := tree.Verify(root, key, proof)
+	return value, had, fault.Tell(err)
 }
 
 // Extract finds two nodes that are different (P10).
-func (t *Tree) Extract(key api.Key, proof []string) (string, string, bool) { return "", "", false }
+func (t *Tree) Extract(key api.Key, proof []string) (string, string, bool) {
+	return t.nodes.Extract(key, proof)
+}
 
 // Witness shows the parts of some keys (P11).
 func (t *Tree) Witness(keys []api.Key) string { return "" }
@@ -110,5 +118,6 @@ func DecodeAccount(code string) (api.Account, api.Fault) {
 
 // VerifyStorage reads a proof of an account and one of its storage (P14).
 func VerifyStorage(root api.Hash, address api.Address, slot api.Key, first []string, second []string) (string, bool, api.Fault) {
-	return "", false, api.Fault{}
+	value, had, err := storage.Verify(root, address, slot, first, second)
+	return value, had, fault.Tell(err)
 }
