@@ -18,6 +18,8 @@ var (
 	Nibble  = errors.New("a byte of the path is above 15")
 	Digest  = errors.New("another digest is wanted")
 	Node    = errors.New("this has not the form of a node")
+	Op      = errors.New("this is no operation")
+	Stack   = errors.New("there are too few nodes, or too many")
 	Value   = errors.New("a value has no byte or too many")
 	Stub    = errors.New("a node is needed of which the digest alone is known")
 	Account = errors.New("this is no account")
@@ -33,7 +35,7 @@ func (p Place) Error() string { return "byte " + strconv.Itoa(p.At) + ": " + p.E
 
 func (p Place) Unwrap() error { return p.Err }
 
-// NoNode adds to what is wrong in a path that so the item around it is no node.
+// NoNode adds to what is wrong in a path that so the item, or the operation, around it is no node.
 type NoNode struct {
 	Err error
 }
@@ -83,6 +85,10 @@ func Number(err error) api.Errno {
 		return api.ErrDigest
 	case errors.Is(err, Node):
 		return api.ErrNode
+	case errors.Is(err, Op):
+		return api.ErrOp
+	case errors.Is(err, Stack):
+		return api.ErrStack
 	case errors.Is(err, Value):
 		return api.ErrValue
 	case errors.Is(err, Stub):

@@ -21,6 +21,8 @@ func TestEachErrorHasItsNumber(t *testing.T) {
 		{Nibble, api.ErrNibble},
 		{Digest, api.ErrDigest},
 		{Node, api.ErrNode},
+		{Op, api.ErrOp},
+		{Stack, api.ErrStack},
 		{Value, api.ErrValue},
 		{Stub, api.ErrStub},
 		{Account, api.ErrAccount},

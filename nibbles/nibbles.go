@@ -54,11 +54,34 @@ func Code(path string, leaf bool) string {
 		first += oddFlag<<4 + path[0]
 		path = path[1:]
 	}
-	code := []byte{first}
+	return string(AppendPairs([]byte{first}, path))
+}
+
+// AppendPairs writes two nibbles a byte, the higher first. Where they are odd, the last one's lower four bits are 0.
+func AppendPairs(packed []byte, path string) []byte {
 	for i := 0; i < len(path); i += 2 {
-		code = append(code, path[i]<<4|path[i+1])
+		pair := path[i] << 4
+		if i+1 < len(path) {
+			pair |= path[i+1]
+		}
+		packed = append(packed, pair)
 	}
-	return string(code)
+	return packed
+}
+
+// PairBytes tells how many bytes AppendPairs writes for that many nibbles.
+func PairBytes(count int) int { return (count + 1) / 2 }
+
+// Unpair reads the path of that many nibbles that AppendPairs writes so.
+func Unpair(packed string, count int) (string, error) {
+	if len(packed) != PairBytes(count) {
+		return "", fault.Form
+	}
+	path := appendNibbles(nil, packed)
+	if len(path) > count && path[count] != 0 {
+		return "", fault.Form
+	}
+	return string(path[:count]), nil
 }
 
 // Unpack gives the path that has a code, and whether it is a leaf's.

@@ -87,3 +87,35 @@ func TestWhatPathsHaveInCommon(t *testing.T) {
 		}
 	}
 }
+
+func TestPairsOfAllShortPathsComeBack(t *testing.T) {
+	paths := []string{""}
+	for from := 0; len(paths[from]) < 3; from++ {
+		for v := range 16 {
+			paths = append(paths, paths[from]+string([]byte{byte(v)}))
+		}
+	}
+	for _, path := range paths {
+		packed := string(AppendPairs([]byte("x"), path))
+		if len(packed) != 1+PairBytes(len(path)) || packed[0] != 'x' {
+			t.Fatalf("the pairs of %x are %x", path, packed)
+		}
+		if back, err := Unpair(packed[1:], len(path)); back != path || err != nil {
+			t.Fatalf("Unpair(%x, %d) = %x, %v", packed[1:], len(path), back, err)
+		}
+	}
+}
+
+func TestPairsThatAreNone(t *testing.T) {
+	for _, c := range []struct {
+		packed string
+		count  int
+	}{
+		{"", 1}, {"", 2}, {"\x10", 0}, {"\x10", 3}, {"\x10\x10", 2}, {"\x10\x10", 5},
+		{"\x11", 1}, {"\x18", 1}, {"\x12\x3f", 3},
+	} {
+		if path, err := Unpair(c.packed, c.count); path != "" || err != fault.Form {
+			t.Errorf("Unpair(%x, %d) = %x, %v, want %v", c.packed, c.count, path, err, fault.Form)
+		}
+	}
+}

@@ -1,6 +1,9 @@
 package tree
 
-import "twigs/item"
+import (
+	"twigs/api"
+	"twigs/item"
+)
 
 // branch has a node for each nibble with which one of its paths begins.
 type branch struct {
@@ -26,6 +29,29 @@ func (b *branch) code() string {
 func (b *branch) reference() string { return b.work(b.code) }
 
 func (b *branch) behind(path string) (node, error) { return under(path, b), nil }
+
+func (b *branch) fits(depth int) bool {
+	if depth >= api.KeyNibbles {
+		return false
+	}
+	for _, next := range b.nodes {
+		if next != nil && !next.fits(depth+1) {
+			return false
+		}
+	}
+	return true
+}
+
+func (b *branch) operations(witness []byte, w wanted) []byte {
+	var forks uint16
+	for nibble, next := range b.nodes {
+		if next != nil {
+			forks |= 1 << nibble
+			witness = w.behind(string([]byte{byte(nibble)})).show(witness, next)
+		}
+	}
+	return append(witness, api.OpBranch, byte(forks), byte(forks>>8))
+}
 
 // with gives the branch that has another node, or none, for a nibble.
 func (b *branch) with(nibble byte, next node) *branch {

@@ -3,6 +3,7 @@ package tree
 import (
 	"strings"
 
+	"twigs/api"
 	"twigs/item"
 	"twigs/nibbles"
 )
@@ -31,6 +32,16 @@ func (e *extension) reference() string { return e.work(e.code) }
 
 func (e *extension) behind(path string) (node, error) {
 	return &extension{path: path + e.path, tail: e.tail}, nil
+}
+
+func (e *extension) fits(depth int) bool {
+	depth += len(e.path)
+	return depth < api.KeyNibbles && e.tail.fits(depth)
+}
+
+func (e *extension) operations(witness []byte, w wanted) []byte {
+	witness = w.behind(e.path).show(witness, e.tail)
+	return appendPath(append(witness, api.OpExt), e.path)
 }
 
 func (e *extension) put(rest, value string) node {

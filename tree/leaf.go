@@ -1,6 +1,7 @@
 package tree
 
 import (
+	"twigs/api"
 	"twigs/item"
 	"twigs/nibbles"
 )
@@ -21,6 +22,13 @@ func (l *leaf) reference() string { return l.work(l.code) }
 
 func (l *leaf) behind(path string) (node, error) {
 	return &leaf{path: path + l.path, value: l.value}, nil
+}
+
+func (l *leaf) fits(depth int) bool { return depth+len(l.path) == api.KeyNibbles }
+
+func (l *leaf) operations(witness []byte, _ wanted) []byte {
+	witness = appendPath(append(witness, api.OpLeaf), l.path)
+	return append(append(witness, byte(len(l.value))), l.value...)
 }
 
 func (l *leaf) put(rest, value string) node {

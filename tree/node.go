@@ -15,6 +15,10 @@ type node interface {
 	reference() string
 	// behind gives the node of the same paths, each with these nibbles ahead.
 	behind(path string) (node, error)
+	// fits tells whether all paths that are known end where those of keys do, if the node stands behind that many nibbles.
+	fits(depth int) bool
+	// operations writes those of a witness that shows the node, and below it what is wanted.
+	operations(witness []byte, w wanted) []byte
 }
 
 // shown is a node that is known whole: any but a stub.

@@ -37,7 +37,7 @@ func readPath(x item.Placed, depth int) (node, error) {
 	if !isLeaf {
 		return readExtension(x, path, depth)
 	}
-	if depth != api.KeyNibbles || other.List || other.Text == "" || len(other.Text) > api.MaxValue {
+	if depth != api.KeyNibbles || other.List || !isValue(other.Text) {
 		return nil, noNode(x)
 	}
 	return &leaf{path: path, value: other.Text}, nil

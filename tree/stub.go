@@ -16,3 +16,10 @@ func (s *stub) reference() string { return s.held }
 
 // Nibbles ahead of a leaf or an extension are joined to its path, those ahead of a branch are not; which of them a stub is can't be told.
 func (s *stub) behind(string) (node, error) { return nil, fault.Stub }
+
+func (s *stub) fits(int) bool { return true }
+
+func (s *stub) operations(witness []byte, _ wanted) []byte {
+	h := digestOf(s)
+	return append(append(witness, api.OpStub), h[:]...)
+}

@@ -1,4 +1,4 @@
-// Package tree has maps, laid out as trees of nodes, and the proofs of what they have.
+// Package tree has maps, laid out as trees of nodes, and the proofs and witnesses of what they have.
 package tree
 
 import (
@@ -37,7 +37,7 @@ func (t *Tree) Get(key api.Key) (string, bool, error) {
 
 // Put gives a key a value.
 func (t *Tree) Put(key api.Key, value string) error {
-	if value == "" || len(value) > api.MaxValue {
+	if !isValue(value) {
 		return fault.Value
 	}
 	w, err := t.way(key)
@@ -46,6 +46,9 @@ func (t *Tree) Put(key api.Key, value string) error {
 	}
 	return t.change(w, w.with(strings.Clone(value)))
 }
+
+// isValue tells whether a key may have this text.
+func isValue(text string) bool { return text != "" && len(text) <= api.MaxValue }
 
 // Delete takes a key's value out, and tells whether it had one.
 func (t *Tree) Delete(key api.Key) (bool, error) {

@@ -99,13 +99,19 @@ func (t *Tree) Extract(key api.Key, proof []string) (string, string, bool) {
 }
 
 // Witness shows the parts of some keys (P11).
-func (t *Tree) Witness(keys []api.Key) string { return "" }
+func (t *Tree) Witness(keys []api.Key) string { return t.nodes.Witness(keys) }
 
 // Whole shows all that there is (P11).
-func (t *Tree) Whole() string { return "" }
+func (t *Tree) Whole() string { return t.nodes.Whole() }
 
 // Open makes a map, or a part of one, of a witness (P12).
-func Open(root api.Hash, witness string) (*Tree, api.Fault) { return nil, api.Fault{} }
+func Open(root api.Hash, witness string) (*Tree, api.Fault) {
+	nodes, err := tree.Open(root, witness)
+	if err != nil {
+		return nil, fault.Tell(err)
+	}
+	return &Tree{nodes: nodes}, api.Fault{}
+}
 
 // EncodeAccount gives an account's code (P13).
 func EncodeAccount(a api.Account) string { return account.Encode(a) }
